@@ -37,7 +37,7 @@ func mays() map[string]runs.Runs {
 	}
 }
 
-// mayNots are Runs that may not be, each for one thing alone.
+// mayNots are Runs that may not be, most of them for one thing alone.
 func mayNots() map[string]runs.Runs {
 	return map[string]runs.Runs{
 		"no tree":                         with(func(r *runs.Runs) { r.Tree = nil }),
